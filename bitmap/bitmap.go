@@ -1,0 +1,22 @@
+// Package bitmap tells what a bitmap is.
+package bitmap
+
+import "outline/api"
+
+// IsOne tells whether b is a bitmap: its sides may be, and each pixel is there and black or white.
+func IsOne(b api.Bitmap) bool {
+	// The sides come first, so that their product cannot overflow.
+	if !isSide(b.W) || !isSide(b.H) || len(b.Bits) != b.W*b.H {
+		return false
+	}
+	for i := 0; i < len(b.Bits); i++ {
+		if b.Bits[i] != '0' && b.Bits[i] != '1' {
+			return false
+		}
+	}
+	return true
+}
+
+func isSide(n int) bool {
+	return n >= 1 && n <= api.MaxSide
+}

@@ -1,0 +1,30 @@
+// Package outline: bitmaps become polygons, and back again. See DOC.md.
+package outline
+
+import (
+	"outline/api"
+	"outline/files"
+)
+
+// Read reads a bitmap (P3, P4).
+func Read(file string) (api.Bitmap, api.Errno, int) { return files.Read(file) }
+
+// Write writes a bitmap (P5).
+func Write(b api.Bitmap) (string, api.Errno) { return files.Write(b) }
+
+// Cycles tells where black and white meet (P6, P7).
+func Cycles(b api.Bitmap, o api.Options) ([]api.Shape, api.Errno) { return nil, api.OK }
+
+// Trace makes polygons (P8 to P10).
+func Trace(b api.Bitmap, o api.Options) ([]api.Shape, api.Errno) { return nil, api.OK }
+
+// Path writes shapes (P11).
+func Path(l []api.Shape) (string, api.Errno) { return "", api.OK }
+
+// Shapes reads shapes (P12).
+func Shapes(path string) ([]api.Shape, api.Errno, int) { return nil, api.OK, 0 }
+
+// Fill makes a bitmap of shapes (P13).
+func Fill(l []api.Shape, w int, h int, rule int) (api.Bitmap, api.Errno) {
+	return api.Bitmap{}, api.OK
+}

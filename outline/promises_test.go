@@ -1,0 +1,110 @@
+package outline
+
+import (
+	"math"
+	"strings"
+	"testing"
+
+	"outline/api"
+)
+
+// The starts lead up to each part of a file; what is told of every string behind them is what P1 and P4 say of all.
+func TestP1ReadOfAllShortStrings(t *testing.T) {
+	for _, start := range []string{"", "P", "P1", "P1 ", "P1 1", "P1 1 ", "P4 9 1", "P1 1 2", "P4 1 2 "} {
+		allStrings(start, "P140 \n#x\xff", 4, func(file string) { checkRead(t, file) })
+	}
+}
+
+func checkRead(t *testing.T, file string) {
+	t.Helper()
+	b, errno, at := Read(file)
+	if errno == api.OK {
+		wantBitmap(t, file, b)
+		wantBitmap(t, file+"x", b)
+		if again, errno := Write(b); errno != api.OK {
+			t.Errorf("Read(%q) = %+v, no bitmap: Write %q, %d", file, b, again, errno)
+		}
+		return
+	}
+	wantError(t, file, errno, at)
+	switch errno {
+	case api.ErrShort:
+		if at != len(file) {
+			t.Errorf("Read(%q): too short at %d", file, at)
+		}
+	case api.ErrSyntax:
+		wantError(t, file[:at], api.ErrShort, at)
+		wantError(t, file[:at+1], api.ErrSyntax, at)
+		wantError(t, file+" 1 1 1", api.ErrSyntax, at)
+	case api.ErrSide:
+		wantError(t, file[:at], api.ErrShort, at)
+		if file[at] < '0' || file[at] > '9' {
+			t.Errorf("Read(%q): a wrong side at %d, where no digit is", file, at)
+		}
+	default:
+		t.Errorf("Read(%q) = %d", file, errno)
+	}
+}
+
+func TestP1LongFilesEnd(t *testing.T) {
+	const many = 3000000
+	blanks := strings.Repeat(" \n\t\r", many/4)
+	wantBitmap(t, "P1"+blanks+"1"+blanks+"1"+blanks+"1", rows("1"))
+	wantBitmap(t, "P1"+strings.Repeat("#\n", many/2)+"1 1 1", rows("1"))
+	wantBitmap(t, "P1#"+strings.Repeat("#", many)+"\n1 1 1", rows("1"))
+	wantBitmap(t, "P4 1 1 \x80"+blanks, rows("1"))
+	wantError(t, "P1#"+blanks[:1]+strings.Repeat("#", many), api.ErrShort, many+4)
+	wantError(t, "P1 1 "+strings.Repeat("1", many), api.ErrSide, 5)
+	wantError(t, "P1 1 1"+blanks, api.ErrShort, many+6)
+}
+
+func TestP1WriteOfAllNumbers(t *testing.T) {
+	numbers := []int{math.MinInt, math.MinInt + 1, -1 << 32, -33, -1, 0, 1, 2, 31, 32, 33, 64, 1 << 31, 1 << 32, 1 << 62, math.MaxInt}
+	for _, w := range numbers {
+		for _, h := range numbers {
+			for _, n := range []int{0, 1, 2, 4, 31, 32, 33, 62, 64, 961, 992, 1024, 1056} {
+				for _, pixel := range []string{"1", "/"} {
+					b := api.Bitmap{W: w, H: h, Bits: strings.Repeat(pixel, n)}
+					one := pixel == "1" && w >= 1 && w <= 32 && h >= 1 && h <= 32 && n == w*h
+					file, errno := Write(b)
+					if one && errno == api.OK && file != "" || !one && errno == api.ErrArg && file == "" {
+						continue
+					}
+					t.Errorf("Write(%d, %d, %d of %q) = %q, %d", w, h, n, pixel, file, errno)
+				}
+			}
+		}
+	}
+}
+
+func TestP2AnswersHangOnArgumentsAlone(t *testing.T) {
+	texts := []string{"P1 2 1 01", "P4 3 2 \xa0\x60", "P1 32 32 " + strings.Repeat("10", 512), "P1 33", "P1 1", "x", "", "P4 32 1 abc"}
+	bitmaps := []api.Bitmap{rows("101", "011"), rows("1"), pattern(32, 32, 1), {}, {W: 1, H: 1, Bits: "2"}}
+	type answer struct {
+		b     api.Bitmap
+		errno api.Errno
+		at    int
+	}
+	var reads []answer
+	for _, text := range texts {
+		b, errno, at := Read(text)
+		reads = append(reads, answer{b, errno, at})
+	}
+	var writes []string
+	for _, b := range bitmaps {
+		file, _ := Write(b)
+		writes = append(writes, file)
+	}
+	// In another order, and with other calls between.
+	for i := len(texts) - 1; i >= 0; i-- {
+		for j := len(bitmaps) - 1; j >= 0; j-- {
+			if file, _ := Write(bitmaps[j]); file != writes[j] {
+				t.Errorf("Write(%+v) = %q, and %q before", bitmaps[j], file, writes[j])
+			}
+			b, errno, at := Read(texts[i])
+			if (answer{b, errno, at}) != reads[i] {
+				t.Errorf("Read(%.60q) = %+v, %d, %d, and %+v before", texts[i], b, errno, at, reads[i])
+			}
+		}
+	}
+}
