@@ -1,4 +1,4 @@
-// Package bitmap tells what a bitmap is.
+// Package bitmap tells what a bitmap is, and where it is black.
 package bitmap
 
 import "outline/api"
@@ -19,4 +19,13 @@ func IsOne(b api.Bitmap) bool {
 
 func isSide(n int) bool {
 	return n >= 1 && n <= api.MaxSide
+}
+
+// IsBlack tells whether pixel (x, y) is black: all that is beyond the bitmap is white.
+func IsBlack(b api.Bitmap, x int, y int) bool {
+	if x < 0 || x >= b.W || y < 0 || y >= b.H {
+		return false
+	}
+	n := y*b.W + x
+	return n >= 0 && n < len(b.Bits) && b.Bits[n] == '1'
 }

@@ -51,3 +51,40 @@ func TestBytesThatMayBe(t *testing.T) {
 		}
 	}
 }
+
+func TestBlackPixels(t *testing.T) {
+	b := api.Bitmap{W: 3, H: 2, Bits: "101011"}
+	black := [][2]int{{0, 0}, {2, 0}, {1, 1}, {2, 1}}
+	for y := -4; y <= 6; y++ {
+		for x := -4; x <= 6; x++ {
+			want := false
+			for _, p := range black {
+				want = want || p == [2]int{x, y}
+			}
+			if got := IsBlack(b, x, y); got != want {
+				t.Errorf("IsBlack(%+v, %d, %d) = %v", b, x, y, got)
+			}
+		}
+	}
+}
+
+// Bits that are over belong to no pixel.
+func TestNoPixelsBehindTheLastRow(t *testing.T) {
+	b := api.Bitmap{W: 2, H: 1, Bits: "1111"}
+	if !IsBlack(b, 1, 0) || IsBlack(b, 0, 1) || IsBlack(b, 1, 1) {
+		t.Errorf("IsBlack looks below the last row")
+	}
+}
+
+func TestNoPixelsFarBeyond(t *testing.T) {
+	far := []int{math.MinInt, -1 << 62, -1 << 32, 1 << 32, 1 << 62, math.MaxInt - 1, math.MaxInt}
+	for _, n := range far {
+		for _, m := range append(far, 0, 1, 2) {
+			for _, b := range []api.Bitmap{{W: 2, H: 2, Bits: "1111"}, {W: math.MaxInt, H: math.MaxInt, Bits: "0"}, {W: 1 << 62, H: math.MaxInt, Bits: "0"}, {W: 2, H: 2}, {}} {
+				if IsBlack(b, n, m) || IsBlack(b, m, n) {
+					t.Errorf("IsBlack finds a pixel at %d, %d of %+v", n, m, b)
+				}
+			}
+		}
+	}
+}

@@ -3,6 +3,7 @@ package outline
 
 import (
 	"outline/api"
+	"outline/cycles"
 	"outline/files"
 )
 
@@ -13,7 +14,7 @@ func Read(file string) (api.Bitmap, api.Errno, int) { return files.Read(file) }
 func Write(b api.Bitmap) (string, api.Errno) { return files.Write(b) }
 
 // Cycles tells where black and white meet (P6, P7).
-func Cycles(b api.Bitmap, o api.Options) ([]api.Shape, api.Errno) { return nil, api.OK }
+func Cycles(b api.Bitmap, o api.Options) ([]api.Shape, api.Errno) { return cycles.Find(b, o) }
 
 // Trace makes polygons (P8 to P10).
 func Trace(b api.Bitmap, o api.Options) ([]api.Shape, api.Errno) { return nil, api.OK }

@@ -108,3 +108,75 @@ func TestP2AnswersHangOnArgumentsAlone(t *testing.T) {
 		}
 	}
 }
+
+func TestP1CyclesOfAllNumbers(t *testing.T) {
+	numbers := []int{math.MinInt, -1 << 32, -33, -1, 0, 1, 2, 3, 4, 32, 33, 1024, 1025, 1 << 32, 1 << 62, math.MaxInt}
+	for _, w := range numbers {
+		for _, h := range numbers {
+			for _, bits := range []string{"", "1", "01", "0110", strings.Repeat("01", 32), strings.Repeat("0", 1024)} {
+				for _, n := range numbers {
+					checkErrors(t, api.Bitmap{W: w, H: h, Bits: bits}, api.Options{Policy: n, Draws: bits})
+					checkErrors(t, api.Bitmap{W: w, H: h, Bits: bits}, api.Options{Policy: 3, Draws: "1", Speckle: n})
+				}
+			}
+		}
+	}
+}
+
+func checkErrors(t *testing.T, b api.Bitmap, o api.Options) {
+	t.Helper()
+	one := b.W >= 1 && b.W <= 32 && b.H >= 1 && b.H <= 32 && len(b.Bits) == b.W*b.H
+	if one && o.Policy >= 0 && o.Policy <= 3 && o.Speckle >= 0 && o.Speckle <= 1024 {
+		checkCycles(t, b, o)
+		return
+	}
+	wantRefused(t, b, o)
+}
+
+// Each list is written into, and far behind its end: no other one may change, and no later answer.
+func TestP2CyclesAreTheCallersOwn(t *testing.T) {
+	b := thick(16, 16, 5, 4)
+	for _, o := range everyPolicy(b, 1) {
+		first, second := cyclesOf(t, b, o), cyclesOf(t, b, o)
+		want := told(first)
+		for i := range first {
+			whole := first[i].Points[:cap(first[i].Points)]
+			kept := append([]api.Point(nil), whole...)
+			for k := range whole {
+				whole[k] = api.Point{X: -7, Y: -7}
+			}
+			rest, other := told(first[:i])+told(first[i+1:]), told(second)
+			copy(whole, kept)
+			if rest != told(first[:i])+told(first[i+1:]) || other != want {
+				t.Fatalf("cycle %d shares memory", i)
+			}
+		}
+		whole := first[:cap(first)]
+		for i := range whole {
+			whole[i] = api.Shape{}
+		}
+		if told(second) != want {
+			t.Fatalf("two answers share memory")
+		}
+		wantCycles(t, b, o, want)
+	}
+}
+
+func TestP2CyclesHangOnArgumentsAlone(t *testing.T) {
+	type asked struct {
+		b    api.Bitmap
+		o    api.Options
+		want string
+	}
+	var all []asked
+	for seed := 0; seed < 12; seed++ {
+		b := pattern(1+seed*2, 24-seed, seed)
+		for _, o := range everyPolicy(b, seed) {
+			all = append(all, asked{b, o, told(cyclesOf(t, b, o))})
+		}
+	}
+	for i := len(all) - 1; i >= 0; i-- {
+		wantRefused(t, all[i].b, api.Options{Policy: 4})
+		wantCycles(t, all[i].b, all[i].o, all[i].want)
+	}
+}
