@@ -52,10 +52,14 @@ func wantCycles(t *testing.T, b api.Bitmap, o api.Options, want string) {
 	}
 }
 
+// wantRefused asks Trace too, as its errors are those of Cycles.
 func wantRefused(t *testing.T, b api.Bitmap, o api.Options) {
 	t.Helper()
 	if l, errno := Cycles(b, o); len(l) != 0 || errno != api.ErrArg {
 		t.Errorf("Cycles(%+v, %s) = %s, %d, want nothing, ErrArg", b, optionsOf(o), told(l), errno)
+	}
+	if l, errno := Trace(b, o); len(l) != 0 || errno != api.ErrArg {
+		t.Errorf("Trace(%+v, %s) = %s, %d, want nothing, ErrArg", b, optionsOf(o), told(l), errno)
 	}
 }
 
@@ -307,7 +311,7 @@ func TestP6SpeckleIsNotLookedAt(t *testing.T) {
 	}
 }
 
-func TestP6Refusals(t *testing.T) {
+func TestP6AndP10Refusals(t *testing.T) {
 	for _, n := range []int{math.MinInt, -1 << 32, -4, -1, 4, 5, 7, 256, 1 << 32, 1<<32 + 1, math.MaxInt} {
 		wantRefused(t, rows("1"), api.Options{Policy: n})
 		wantRefused(t, rows("0"), api.Options{Policy: n, Draws: "1"})
@@ -331,11 +335,13 @@ func TestP6Refusals(t *testing.T) {
 	}
 }
 
-func TestP6OptionsAtTheirLimits(t *testing.T) {
+func TestP6AndP10OptionsAtTheirLimits(t *testing.T) {
 	draws := strings.Repeat("1", 5000000)
 	for policy := 0; policy <= 3; policy++ {
 		for _, speckle := range []int{0, 1024} {
-			wantCycles(t, rows("1"), api.Options{Policy: policy, Speckle: speckle, Draws: draws}, "0,0 0,1 1,1 1,0 (2)")
+			o := api.Options{Policy: policy, Speckle: speckle, Draws: draws}
+			wantCycles(t, rows("1"), o, "0,0 0,1 1,1 1,0 (2)")
+			checkTrace(t, rows("1"), o, bestNumbers)
 		}
 	}
 }

@@ -5,6 +5,7 @@ import (
 	"outline/api"
 	"outline/cycles"
 	"outline/files"
+	"outline/polygons"
 )
 
 // Read reads a bitmap (P3, P4).
@@ -17,7 +18,7 @@ func Write(b api.Bitmap) (string, api.Errno) { return files.Write(b) }
 func Cycles(b api.Bitmap, o api.Options) ([]api.Shape, api.Errno) { return cycles.Find(b, o) }
 
 // Trace makes polygons (P8 to P10).
-func Trace(b api.Bitmap, o api.Options) ([]api.Shape, api.Errno) { return nil, api.OK }
+func Trace(b api.Bitmap, o api.Options) ([]api.Shape, api.Errno) { return polygons.Find(b, o) }
 
 // Path writes shapes (P11).
 func Path(l []api.Shape) (string, api.Errno) { return "", api.OK }

@@ -109,7 +109,7 @@ func TestP2AnswersHangOnArgumentsAlone(t *testing.T) {
 	}
 }
 
-func TestP1CyclesOfAllNumbers(t *testing.T) {
+func TestP1CyclesAndTraceOfAllNumbers(t *testing.T) {
 	numbers := []int{math.MinInt, -1 << 32, -33, -1, 0, 1, 2, 3, 4, 32, 33, 1024, 1025, 1 << 32, 1 << 62, math.MaxInt}
 	for _, w := range numbers {
 		for _, h := range numbers {
@@ -128,55 +128,66 @@ func checkErrors(t *testing.T, b api.Bitmap, o api.Options) {
 	one := b.W >= 1 && b.W <= 32 && b.H >= 1 && b.H <= 32 && len(b.Bits) == b.W*b.H
 	if one && o.Policy >= 0 && o.Policy <= 3 && o.Speckle >= 0 && o.Speckle <= 1024 {
 		checkCycles(t, b, o)
+		checkTrace(t, b, o, bestNumbers)
 		return
 	}
 	wantRefused(t, b, o)
 }
 
+// asker is cyclesOf or traceOf.
+type asker func(*testing.T, api.Bitmap, api.Options) []api.Shape
+
 // Each list is written into, and far behind its end: no other one may change, and no later answer.
-func TestP2CyclesAreTheCallersOwn(t *testing.T) {
-	b := thick(16, 16, 5, 4)
-	for _, o := range everyPolicy(b, 1) {
-		first, second := cyclesOf(t, b, o), cyclesOf(t, b, o)
-		want := told(first)
-		for i := range first {
-			whole := first[i].Points[:cap(first[i].Points)]
-			kept := append([]api.Point(nil), whole...)
-			for k := range whole {
-				whole[k] = api.Point{X: -7, Y: -7}
-			}
-			rest, other := told(first[:i])+told(first[i+1:]), told(second)
-			copy(whole, kept)
-			if rest != told(first[:i])+told(first[i+1:]) || other != want {
-				t.Fatalf("cycle %d shares memory", i)
-			}
+func checkOwn(t *testing.T, ask asker, b api.Bitmap, o api.Options) {
+	t.Helper()
+	first, second := ask(t, b, o), ask(t, b, o)
+	want := told(first)
+	for i := range first {
+		whole := first[i].Points[:cap(first[i].Points)]
+		kept := append([]api.Point(nil), whole...)
+		for k := range whole {
+			whole[k] = api.Point{X: -7, Y: -7}
 		}
-		whole := first[:cap(first)]
-		for i := range whole {
-			whole[i] = api.Shape{}
+		rest, other := told(first[:i])+told(first[i+1:]), told(second)
+		copy(whole, kept)
+		if rest != told(first[:i])+told(first[i+1:]) || other != want {
+			t.Fatalf("shape %d shares memory", i)
 		}
-		if told(second) != want {
-			t.Fatalf("two answers share memory")
-		}
-		wantCycles(t, b, o, want)
+	}
+	whole := first[:cap(first)]
+	for i := range whole {
+		whole[i] = api.Shape{}
+	}
+	if told(second) != want || told(ask(t, b, o)) != want {
+		t.Fatalf("two answers share memory")
 	}
 }
 
-func TestP2CyclesHangOnArgumentsAlone(t *testing.T) {
+func TestP2ShapesAreTheCallersOwn(t *testing.T) {
+	b := thick(16, 16, 5, 4)
+	for _, o := range everyPolicy(b, 1) {
+		checkOwn(t, cyclesOf, b, o)
+		checkOwn(t, traceOf, b, o)
+	}
+}
+
+func TestP2CyclesAndTraceHangOnArgumentsAlone(t *testing.T) {
 	type asked struct {
-		b    api.Bitmap
-		o    api.Options
-		want string
+		b             api.Bitmap
+		o             api.Options
+		cycles, trace string
 	}
 	var all []asked
 	for seed := 0; seed < 12; seed++ {
 		b := pattern(1+seed*2, 24-seed, seed)
 		for _, o := range everyPolicy(b, seed) {
-			all = append(all, asked{b, o, told(cyclesOf(t, b, o))})
+			o.Speckle = seed % 3
+			all = append(all, asked{b, o, told(cyclesOf(t, b, o)), told(traceOf(t, b, o))})
 		}
 	}
 	for i := len(all) - 1; i >= 0; i-- {
 		wantRefused(t, all[i].b, api.Options{Policy: 4})
-		wantCycles(t, all[i].b, all[i].o, all[i].want)
+		wantTrace(t, all[i].b, all[i].o, all[i].trace)
+		wantCycles(t, all[i].b, all[i].o, all[i].cycles)
 	}
 }
