@@ -6,7 +6,7 @@ import "outline/api"
 // IsOne tells whether b is a bitmap: its sides may be, and each pixel is there and black or white.
 func IsOne(b api.Bitmap) bool {
 	// The sides come first, so that their product cannot overflow.
-	if !isSide(b.W) || !isSide(b.H) || len(b.Bits) != b.W*b.H {
+	if !IsSide(b.W) || !IsSide(b.H) || len(b.Bits) != b.W*b.H {
 		return false
 	}
 	for i := 0; i < len(b.Bits); i++ {
@@ -17,7 +17,8 @@ func IsOne(b api.Bitmap) bool {
 	return true
 }
 
-func isSide(n int) bool {
+// IsSide tells whether a bitmap may be so wide, or so high.
+func IsSide(n int) bool {
 	return n >= 1 && n <= api.MaxSide
 }
 

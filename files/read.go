@@ -1,7 +1,10 @@
 // Package files reads bitmaps from files and writes them (P3 to P5).
 package files
 
-import "outline/api"
+import (
+	"outline/api"
+	"outline/scan"
+)
 
 // head is what stands ahead of the pixels.
 type head struct {
@@ -42,10 +45,10 @@ func readHead(file string) (head, int, api.Errno) {
 
 func readKind(file string) (byte, int, api.Errno) {
 	if len(file) < 1 || file[0] != 'P' {
-		return 0, 0, wrongAt(file, 0)
+		return 0, 0, scan.WrongAt(file, 0)
 	}
 	if len(file) < 2 || (file[1] != '1' && file[1] != '4') {
-		return 0, 1, wrongAt(file, 1)
+		return 0, 1, scan.WrongAt(file, 1)
 	}
 	return file[1], 2, api.OK
 }
@@ -54,24 +57,15 @@ func readKind(file string) (byte, int, api.Errno) {
 func readSide(file string, at int) (int, int, api.Errno) {
 	first := skipGap(file, at)
 	if first == at {
-		return 0, at, wrongAt(file, at)
+		return 0, at, scan.WrongAt(file, at)
 	}
 	return readNumber(file, first)
 }
 
 func readNumber(file string, first int) (int, int, api.Errno) {
-	n := 0
-	at := first
-	for at < len(file) && isDigit(file[at]) {
-		n = n*10 + int(file[at]-'0')
-		if n > api.MaxSide {
-			// Held there, so that a long number cannot overflow and seem small again.
-			n = api.MaxSide + 1
-		}
-		at++
-	}
+	n, at := scan.Number(file, first)
 	if at == first {
-		return 0, at, wrongAt(file, at)
+		return 0, at, scan.WrongAt(file, at)
 	}
 	if n == 0 || n > api.MaxSide {
 		return 0, first, api.ErrSide
@@ -92,7 +86,7 @@ func readPlain(file string, at int, n int) (string, int, api.Errno) {
 	for i := 0; i < n; i++ {
 		at = skipBlanks(file, at)
 		if at >= len(file) || (file[at] != '0' && file[at] != '1') {
-			return "", at, wrongAt(file, at)
+			return "", at, scan.WrongAt(file, at)
 		}
 		bits = append(bits, file[at])
 		at++
@@ -103,7 +97,7 @@ func readPlain(file string, at int, n int) (string, int, api.Errno) {
 // readPacked reads the pixels of a P4 file, and the one byte ahead of them.
 func readPacked(file string, at int, w int, h int) (string, int, api.Errno) {
 	if at >= len(file) || !isBlank(file[at]) {
-		return "", at, wrongAt(file, at)
+		return "", at, scan.WrongAt(file, at)
 	}
 	at++
 	rowBytes := (w + 7) / 8
@@ -150,18 +144,6 @@ func skipBlanks(file string, at int) int {
 	return at
 }
 
-// wrongAt tells what is wrong at a place where nothing stands that may stand there.
-func wrongAt(file string, at int) api.Errno {
-	if at >= len(file) {
-		return api.ErrShort
-	}
-	return api.ErrSyntax
-}
-
 func isBlank(c byte) bool {
 	return c == ' ' || c == '\n' || c == '\t' || c == '\r'
-}
-
-func isDigit(c byte) bool {
-	return c >= '0' && c <= '9'
 }

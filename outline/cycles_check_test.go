@@ -57,6 +57,14 @@ func linesOf(s api.Shape) []line {
 	return l
 }
 
+func twiceOf(s api.Shape) int {
+	twice := 0
+	for _, l := range linesOf(s) {
+		twice += l.from.Y*l.to.X - l.from.X*l.to.Y
+	}
+	return twice
+}
+
 // sidesOf answers the sides of a bitmap, by what the document says of each side of a black pixel.
 func sidesOf(b api.Bitmap) map[line]bool {
 	sides := map[line]bool{}
@@ -155,10 +163,7 @@ func wrongWinding(b api.Bitmap, l []api.Shape) string {
 
 func wrongTwice(l []api.Shape) string {
 	for _, s := range l {
-		twice := 0
-		for _, side := range linesOf(s) {
-			twice += side.from.Y*side.to.X - side.from.X*side.to.Y
-		}
+		twice := twiceOf(s)
 		if s.Twice != twice || twice == 0 {
 			return "the Twice of a cycle"
 		}

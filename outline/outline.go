@@ -5,6 +5,8 @@ import (
 	"outline/api"
 	"outline/cycles"
 	"outline/files"
+	"outline/fill"
+	"outline/paths"
 	"outline/polygons"
 )
 
@@ -21,12 +23,12 @@ func Cycles(b api.Bitmap, o api.Options) ([]api.Shape, api.Errno) { return cycle
 func Trace(b api.Bitmap, o api.Options) ([]api.Shape, api.Errno) { return polygons.Find(b, o) }
 
 // Path writes shapes (P11).
-func Path(l []api.Shape) (string, api.Errno) { return "", api.OK }
+func Path(l []api.Shape) (string, api.Errno) { return paths.Write(l) }
 
 // Shapes reads shapes (P12).
-func Shapes(path string) ([]api.Shape, api.Errno, int) { return nil, api.OK, 0 }
+func Shapes(path string) ([]api.Shape, api.Errno, int) { return paths.Read(path) }
 
 // Fill makes a bitmap of shapes (P13).
 func Fill(l []api.Shape, w int, h int, rule int) (api.Bitmap, api.Errno) {
-	return api.Bitmap{}, api.OK
+	return fill.Fill(l, w, h, rule)
 }

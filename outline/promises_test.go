@@ -134,13 +134,10 @@ func checkErrors(t *testing.T, b api.Bitmap, o api.Options) {
 	wantRefused(t, b, o)
 }
 
-// asker is cyclesOf or traceOf.
-type asker func(*testing.T, api.Bitmap, api.Options) []api.Shape
-
 // Each list is written into, and far behind its end: no other one may change, and no later answer.
-func checkOwn(t *testing.T, ask asker, b api.Bitmap, o api.Options) {
+func checkOwn(t *testing.T, ask func() []api.Shape) {
 	t.Helper()
-	first, second := ask(t, b, o), ask(t, b, o)
+	first, second := ask(), ask()
 	want := told(first)
 	for i := range first {
 		whole := first[i].Points[:cap(first[i].Points)]
@@ -158,7 +155,7 @@ func checkOwn(t *testing.T, ask asker, b api.Bitmap, o api.Options) {
 	for i := range whole {
 		whole[i] = api.Shape{}
 	}
-	if told(second) != want || told(ask(t, b, o)) != want {
+	if told(second) != want || told(ask()) != want {
 		t.Fatalf("two answers share memory")
 	}
 }
@@ -166,8 +163,11 @@ func checkOwn(t *testing.T, ask asker, b api.Bitmap, o api.Options) {
 func TestP2ShapesAreTheCallersOwn(t *testing.T) {
 	b := thick(16, 16, 5, 4)
 	for _, o := range everyPolicy(b, 1) {
-		checkOwn(t, cyclesOf, b, o)
-		checkOwn(t, traceOf, b, o)
+		checkOwn(t, func() []api.Shape { return cyclesOf(t, b, o) })
+		checkOwn(t, func() []api.Shape { return traceOf(t, b, o) })
+	}
+	for _, path := range []string{"M0 0z", "M1 2z M3 4z", "M1 2L3 4L5 6zM1 2L3 4L5 6zM1 2L3 4L5 6z", spelt(patternShapes(60, 32, 1))} {
+		checkOwn(t, func() []api.Shape { return shapesOf(t, path) })
 	}
 }
 
@@ -190,4 +190,106 @@ func TestP2CyclesAndTraceHangOnArgumentsAlone(t *testing.T) {
 		wantTrace(t, all[i].b, all[i].o, all[i].trace)
 		wantCycles(t, all[i].b, all[i].o, all[i].cycles)
 	}
+}
+
+// heldShapes answers shapes that share their points with each other, with more behind the end of each list, and a list of all there is: what the calls write into is seen there.
+func heldShapes(seed int) ([]api.Shape, func() string) {
+	points := make([]api.Point, 40)
+	for i := range points {
+		points[i] = api.Point{X: (i*i + seed) % 33, Y: (i*7 + seed) % 33}
+	}
+	all := make([]api.Shape, 12)
+	for i := range all {
+		all[i] = api.Shape{Points: points[i : i*2+1], Twice: i - 3}
+	}
+	return all[:8], func() string { return told(all) + told([]api.Shape{{Points: points}}) }
+}
+
+func TestP2PathAndFillWriteIntoNothing(t *testing.T) {
+	for seed := 0; seed < 20; seed++ {
+		l, held := heldShapes(seed)
+		before := held()
+		wantPath(t, l, spelt(l))
+		checkFill(t, l, 1+seed, 32-seed)
+		wantNotFilled(t, l, 0, 1, 0)
+		l[7].Points[seed%8].X = 33
+		refused := held()
+		wantNoPath(t, l)
+		if after := held(); after != refused {
+			t.Errorf("what is refused is %s, and was %s", after, refused)
+		}
+		again, _ := heldShapes(seed)
+		l[7].Points[seed%8].X = again[7].Points[seed%8].X
+		if after := held(); after != before {
+			t.Errorf("what was handed in is %s, and was %s", after, before)
+		}
+	}
+}
+
+func TestP2PathShapesAndFillHangOnArgumentsAlone(t *testing.T) {
+	type asked struct {
+		l            []api.Shape
+		path         string
+		nonZero, odd api.Bitmap
+	}
+	var all []asked
+	for seed := 0; seed < 60; seed++ {
+		a := asked{l: patternShapes(seed%6, 32, seed)}
+		a.path, _ = Path(a.l)
+		a.nonZero, a.odd = filled(t, a.l, 1+seed%32, 1+seed%17, 0), filled(t, a.l, 32, 1+seed%32, 1)
+		wantShapes(t, a.path, told(a.l))
+		all = append(all, a)
+	}
+	// In another order, and with refusals between.
+	for i := len(all) - 1; i >= 0; i-- {
+		wantNoPath(t, shapes(through(33, 0)))
+		wantNoShapes(t, all[i].path+"M1 2L3 4", api.ErrShort, len(all[i].path)+8)
+		wantFilledBy(t, all[i].l, api.Odd, all[i].odd)
+		wantShapes(t, all[i].path, told(all[i].l))
+		wantFilledBy(t, all[i].l, api.NonZero, all[i].nonZero)
+		wantPath(t, all[i].l, all[i].path)
+	}
+}
+
+func TestP1PathAndFillOfAllNumbers(t *testing.T) {
+	numbers := []int{math.MinInt, math.MinInt + 1, -1 << 32, -33, -1, 0, 1, 31, 32, 33, 64, 1 << 31, 1 << 32, 1 << 62, math.MaxInt}
+	isOne := func(n, least, most int) bool { return n >= least && n <= most }
+	for _, n := range numbers {
+		for _, m := range numbers {
+			l := shapes(through(1, 2, n, m, 30, 4))
+			if isOne(n, 0, 32) && isOne(m, 0, 32) {
+				wantPath(t, l, spelt(l))
+				checkFill(t, l, 32, 32)
+			} else {
+				wantNoPath(t, l)
+			}
+			for _, rule := range numbers {
+				if isOne(n, 1, 32) && isOne(m, 1, 32) && isOne(rule, 0, 1) {
+					checkFill(t, shapes(through(0, 0, 0, 20, 30, 30)), n, m)
+				} else {
+					wantNotFilled(t, shapes(through(0, 0, 0, 20, 30, 30)), n, m, rule)
+				}
+			}
+		}
+	}
+}
+
+func TestP1LongPathsAndListsEnd(t *testing.T) {
+	const many = 300000
+	wantNoShapes(t, strings.Repeat("M0 0z", many)+"M", api.ErrShort, 5*many+1)
+	wantNoShapes(t, "M1 2"+strings.Repeat("L0 0", many)+"x", api.ErrSyntax, 4*many+4)
+	wantNoShapes(t, "M1 "+strings.Repeat("1", many), api.ErrSide, 3)
+	wantNoShapes(t, "M1"+strings.Repeat(" \n", many), api.ErrShort, 2*many+2)
+	if l := shapesOf(t, strings.Repeat("M0 0z", many)); len(l) != many {
+		t.Errorf("%d shapes of %d", len(l), many)
+	}
+	if l := shapesOf(t, "M0 0"+strings.Repeat("L32 0", many)+"z"); len(l) != 1 || len(l[0].Points) != many+1 {
+		t.Errorf("a shape of %d points is none", many+1)
+	}
+	var l []api.Shape
+	for i := 0; i < 5001; i++ {
+		l = append(l, through(0, 0, 0, 32, 32, 32, 32, 0))
+	}
+	wantFilled(t, l, allOf(32, 32, "1"))
+	wantFilledBy(t, l[1:], api.Odd, allOf(32, 32, "0"))
 }

@@ -151,9 +151,7 @@ func polygonBy(best func([]api.Point) numbers, cycle api.Shape) api.Shape {
 			s.Points = append(s.Points, cycle.Points[i])
 		}
 	}
-	for _, l := range linesOf(s) {
-		s.Twice += l.from.Y*l.to.X - l.from.X*l.to.Y
-	}
+	s.Twice = twiceOf(s)
 	return s
 }
 

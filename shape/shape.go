@@ -3,6 +3,26 @@ package shape
 
 import "outline/api"
 
+// MayBe tells whether shapes can be written and filled: each has points, and all points lie where the greatest bitmap has some.
+func MayBe(l []api.Shape) bool {
+	for i := 0; i < len(l); i++ {
+		if len(l[i].Points) == 0 || !areWithin(l[i].Points) {
+			return false
+		}
+	}
+	return true
+}
+
+func areWithin(points []api.Point) bool {
+	for i := 0; i < len(points); i++ {
+		p := points[i]
+		if p.X < 0 || p.X > api.MaxSide || p.Y < 0 || p.Y > api.MaxSide {
+			return false
+		}
+	}
+	return true
+}
+
 // Twice answers twice the area that the points go round, above 0 if it lies on the left.
 func Twice(points []api.Point) int {
 	if len(points) == 0 {

@@ -115,3 +115,20 @@ func middles(from, to, way api.Point) string {
 	}
 	return text
 }
+
+func TestMayBe(t *testing.T) {
+	one := api.Shape{Points: points(0, 0, 32, 32, 0, 32)}
+	for _, l := range [][]api.Shape{nil, {}, {one}, {one, one}, {{Points: points(32, 0)}}, {{Points: points(0, 32), Twice: 5}, one}} {
+		if !MayBe(l) {
+			t.Errorf("MayBe says no to %v", l)
+		}
+	}
+	for _, wrong := range [][]api.Point{nil, {}, points(-1, 0), points(0, -1), points(33, 0), points(0, 33), points(0, 0, 33, 1), points(0, 0, 1, 33, 2, 2), points(0, 0, 2, 2, 1, -1)} {
+		s := api.Shape{Points: wrong}
+		for _, l := range [][]api.Shape{{s}, {s, one}, {one, s}, {one, s, one}} {
+			if MayBe(l) {
+				t.Errorf("MayBe takes %v", l)
+			}
+		}
+	}
+}
